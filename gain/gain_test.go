@@ -184,8 +184,8 @@ func modelCost(way int, s string) float64 {
 		}
 		return modelShare(len(lines)-len("begin 644 x\n"), len(s))
 	case 3:
-		if n := len(format.Escape(s)); n <= 256 {
-			return modelShare(n, len(s))
+		if len(s) <= 256 {
+			return modelShare(len(format.Escape(s)), len(s))
 		}
 		return infinite
 	}
@@ -567,7 +567,11 @@ func TestCost(t *testing.T) {
 		{Raw, "abc\n", 1}, {Raw, "\n", 1}, {Raw, "abc", infinite}, {Raw, "\x00\n", infinite}, {Raw, repeat("x\n", 1000), 1}, {Raw, repeat("x\n", 1000) + "x", infinite}, {Raw, "é\n", infinite},
 		{Uu, "a", 12}, {Uu, "abc", 4}, {Uu, "abcd", 4}, {Uu, "abc\n", 4}, {Uu, repeat("\xff", 45), 68.0 / 45}, {Uu, repeat("\x00", 46), 74.0 / 46}, {Uu, repeat("a", 90), 130.0 / 90}, {Uu, repeat("a", 450), 626.0 / 450},
 		{Octal, "a", 1}, {Octal, "abc", 1}, {Octal, "abc\n", 7.0 / 4}, {Octal, "\x00", 4}, {Octal, "%", 4}, {Octal, "'a'", 3},
-		{Octal, repeat("a", 256), 1}, {Octal, repeat("a", 257), infinite}, {Octal, repeat("\x00", 64), 4}, {Octal, repeat("\x00", 64) + "a", infinite}, {Octal, repeat("\x00", 63) + "aaaa", 256.0 / 67}, {Octal, repeat("\x00", 63) + "aaaaa", infinite}, {Octal, repeat("\x00", 65), infinite}, {Octal, repeat("a", 255) + "\n", infinite}, {Octal, repeat("a", 252) + "\n", 256.0 / 253},
+		// at most 256 bytes, whatever a format of them has
+		{Octal, repeat("a", 255), 1}, {Octal, repeat("a", 256), 1}, {Octal, repeat("a", 257), infinite},
+		{Octal, repeat("\x00", 64), 4}, {Octal, repeat("\x00", 65), 4}, {Octal, repeat("\x00", 255), 4}, {Octal, repeat("\x00", 256), 4}, {Octal, repeat("\x00", 257), infinite},
+		{Octal, repeat("\x00", 64) + "a", 257.0 / 65}, {Octal, repeat("\x00", 63) + "aaaa", 256.0 / 67}, {Octal, repeat("\x00", 63) + "aaaaa", 257.0 / 68}, {Octal, repeat("\x00", 64) + repeat("a", 192), 448.0 / 256}, {Octal, repeat("\x00", 64) + repeat("a", 193), infinite},
+		{Octal, repeat("a", 252) + "\n", 256.0 / 253}, {Octal, repeat("a", 255) + "\n", 259.0 / 256}, {Octal, repeat("a", 255) + "%", 259.0 / 256}, {Octal, repeat("a", 256) + "\n", infinite}, {Octal, repeat("a", 256) + "%", infinite}, {Octal, repeat("é", 128), 4}, {Octal, repeat("é", 128) + "a", infinite},
 		{0, "a\n", none}, {4, "a\n", none}, {-1, "a\n", none}, {7, "a", none}, {math.MaxInt, "a\n", none}, {math.MinInt, "a\n", none}, {1 << 32, "a\n", none}, {1<<32 + 1, "a\n", none}, {256 + Uu, "a\n", none},
 		{Raw, "", infinite}, {Uu, "", infinite}, {Octal, "", none}, {0, "", none}, {4, "", none},
 	} {
@@ -627,6 +631,9 @@ func TestBest(t *testing.T) {
 		{repeat("\xff", 100), all, Uu, api.OK}, {repeat("a", 257), all, Uu, api.OK}, {repeat("a", 256), all, Octal, api.OK}, {"\x00", all, Octal, api.OK},
 		// as much one way as the other: 12 bytes
 		{"\x00\x00\x00", []int{Octal, Uu}, Octal, api.OK}, {"\x00\x00\x00", []int{Uu, Octal}, Uu, api.OK}, {"\x00\x00\x00", all, Uu, api.OK}, {"\x00\x00\x00a", all, Octal, api.OK},
+		// at most 256 bytes, of which a format has more: 280 of 220, and 312 as lines
+		{repeat("a", 200) + repeat("\x00", 20), []int{Octal, Uu}, Octal, api.OK}, {repeat("a", 200) + repeat("\x00", 20), all, Octal, api.OK}, {repeat("\x00", 65), []int{Octal}, Octal, api.OK}, {repeat("\x00", 65), all, Uu, api.OK}, {repeat("\x00", 256), []int{Raw, Octal}, Octal, api.OK}, {repeat("\x00", 257), []int{Raw, Octal}, 0, api.ErrKind},
+		{repeat("a", 255) + "%", all, Octal, api.OK}, {repeat("a", 256) + "%", all, Uu, api.OK}, {repeat("a", 240) + repeat("%", 16), []int{Uu, Octal}, Octal, api.OK},
 		// what can't be
 		{"\x00", []int{Raw}, 0, api.ErrKind}, {"abc", []int{Raw}, 0, api.ErrKind}, {repeat("a", 257), []int{Raw, Octal}, 0, api.ErrKind}, {repeat("a", 257), []int{Octal, Raw, Octal}, 0, api.ErrKind},
 		{"a", []int{7}, 0, api.ErrKind}, {"a", []int{0, -1, 4}, 0, api.ErrKind}, {"a", []int{7, Raw}, 0, api.ErrKind}, {"a\n", []int{7}, 0, api.ErrKind},
@@ -654,13 +661,15 @@ func TestBestModel(t *testing.T) {
 			n = 0
 		}
 		s := byChance(r, n)
-		switch r.Intn(4) {
+		switch r.Intn(5) {
 		case 0:
 			s = repeat("a", n*3)
 		case 1:
 			s = pick(r, n, "a", "b", "\t", " ", "\n", "a\n")
 		case 2:
 			s = pick(r, n/8, "\x00", "%", "a")
+		case 3:
+			s = repeat("a", n*3-n/2) + repeat("%", n/2)
 		}
 		ways := make([]int, r.Intn(5))
 		for i := range ways {
